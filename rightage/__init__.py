@@ -1,0 +1,1 @@
+"""Rightage: things made only of things of the right age."""
