@@ -45,6 +45,13 @@ def has(world, table, kind, origin, age):
     return cell is not None and cell <= origin
 
 
+def first_there(world, table, kind, place, age):
+    """The first moment of that place at which by the table such a thing of that age is there, or None."""
+    cell = table[world[1].index(kind)][place_of(world, place - age)][min(age, READY)]
+    # No moment is below 0, and the first one of a place is its own number.
+    return None if cell is None else max(cell + age, place)
+
+
 def both(world, one, other):
     """The table that has just what both have."""
     return cell_by_cell(higher_cell, one, other)

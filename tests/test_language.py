@@ -2,6 +2,7 @@
 
 import ast
 import builtins
+import functools
 import os
 import re
 import unittest
@@ -27,11 +28,15 @@ BARRED_NAMES = set(
     "copyright credits delattr dir eval exec exit gc getattr globals hasattr help id importlib license locals "
     "methodcaller os quit setattr type vars sys".split())
 NO_GENERATOR = ("any", "all", "min", "max", "sum", "sorted")
+AT_ONCE = ("zip", "enumerate", "reversed", "range")
+AT_ONCE_METHODS = ("items", "keys", "values")
+TAKES_AT_ONCE = ("list", "tuple", "dict", "sorted", "sum", "any", "all", "enumerate", "zip", "min", "max")
 STATEMENTS = (
     ast.Assign, ast.AugAssign, ast.If, ast.While, ast.For, ast.Return, ast.Break, ast.Continue, ast.Pass, ast.Raise,
     ast.Assert, ast.Delete, ast.Nonlocal, ast.With, ast.Try, ast.Expr, ast.FunctionDef, ast.ClassDef, ast.ImportFrom)
 
 
+@functools.lru_cache(maxsize=None)
 def sources():
     """File name to text, of all files of the package."""
     told = {}
@@ -42,10 +47,14 @@ def sources():
     return told
 
 
+@functools.lru_cache(maxsize=None)
+def all_nodes():
+    return [(name, node) for name, text in sources().items() for node in ast.walk(ast.parse(text))]
+
+
 def nodes(kinds):
     """(file name, node) of all nodes of these kinds."""
-    return [(name, node) for name, text in sources().items()
-            for node in ast.walk(ast.parse(text)) if isinstance(node, kinds)]
+    return [(name, node) for name, node in all_nodes() if isinstance(node, kinds)]
 
 
 def bound_names():
@@ -61,8 +70,18 @@ def bound_names():
     return told
 
 
+@functools.lru_cache(maxsize=None)
 def own_methods():
     return {row.name for name, node in nodes(ast.ClassDef) for row in node.body if isinstance(row, ast.FunctionDef)}
+
+
+def is_at_once(node):
+    """Whether it is a call of what is iterated on the spot and not kept."""
+    if not isinstance(node, ast.Call):
+        return False
+    if isinstance(node.func, ast.Name):
+        return node.func.id in AT_ONCE
+    return isinstance(node.func, ast.Attribute) and node.func.attr in AT_ONCE_METHODS
 
 
 class TestFiles(unittest.TestCase):
@@ -138,6 +157,13 @@ class TestNames(unittest.TestCase):
                     told += [alias.asname or alias.name for alias in row.names]
             self.assertEqual(sorted(set(told)), sorted(told), name)
 
+    def test_no_local_name_is_an_import_or_a_class(self):
+        taken = {(name, alias.asname or alias.name) for name, node in nodes(ast.ImportFrom) for alias in node.names}
+        taken |= {(name, node.name) for name, node in nodes(ast.ClassDef)}
+        local = {(name, node.arg) for name, node in nodes(ast.arg)}
+        local |= {(name, node.id) for name, node in nodes(ast.Name) if isinstance(node.ctx, ast.Store)}
+        self.assertEqual(taken & local, set())
+
     def test_builtins_that_are_let(self):
         for name, node in nodes(ast.Name):
             if node.id in dir(builtins):
@@ -180,6 +206,34 @@ class TestCode(unittest.TestCase):
             if isinstance(node.func, ast.Name) and node.func.id in NO_GENERATOR:
                 for handed in node.args:
                     self.assertNotIsInstance(handed, ast.GeneratorExp, (name, node.lineno))
+
+    def test_iterated_at_once(self):
+        let = []
+        for name, node in nodes((ast.For, ast.comprehension)):
+            let.append(node.iter)
+        for name, node in nodes(ast.Call):
+            if isinstance(node.func, ast.Name) and node.func.id in TAKES_AT_ONCE:
+                let += node.args
+            if isinstance(node.func, ast.Name) and node.func.id == "len":
+                self.assertFalse([part for part in node.args if is_at_once(part)], (name, node.lineno))
+        for name, node in nodes(ast.Call):
+            if is_at_once(node):
+                self.assertTrue(any(node is one for one in let), (name, node.lineno))
+
+    def test_powers_are_of_literals(self):
+        for name, node in nodes(ast.BinOp):
+            if isinstance(node.op, ast.Pow):
+                self.assertIsInstance(node.right, ast.Constant, (name, node.lineno))
+                self.assertIn(node.right.value, range(65), (name, node.lineno))
+
+    def test_what_is_raised_is_made_on_the_spot(self):
+        for name, node in nodes(ast.Raise):
+            self.assertIsInstance(node.exc, ast.Call, (name, node.lineno))
+            self.assertIsInstance(node.exc.func, ast.Name, (name, node.lineno))
+
+    def test_no_stroke_among_parameters(self):
+        for name, node in nodes(ast.arguments):
+            self.assertEqual(node.posonlyargs, [], name)
 
     def test_sets_and_comprehensions_in_functions_only(self):
         for name, text in sources().items():
