@@ -1,4 +1,4 @@
-"""What a number, a name and a row are, whatever is handed in."""
+"""What a number, a name, a row and a fraction are, whatever is handed in."""
 
 LETTERS = "abcdefghijklmnopqrstuvwxyz"
 NAME_LENGTH = 8
@@ -30,3 +30,28 @@ def is_row(thing, fewest, most):
 def is_rising(row):
     """Whether each is above the one ahead."""
     return all([ahead < behind for ahead, behind in zip(row, row[1:])])
+
+
+def is_fraction(thing):
+    """Whether it is (above, below) without a common divisor, below from 1 on."""
+    if not is_row(thing, 2, 2) or not is_number(thing[0]) or not is_number(thing[1]):
+        return False
+    return thing[1] >= 1 and common_divisor(thing[0], thing[1]) == 1
+
+
+def common_divisor(one, other):
+    """The greatest number that divides both."""
+    while other != 0:
+        one, other = other, one % other
+    return abs(one)
+
+
+def common_multiple(one, other):
+    """The least number from 1 on that both divide."""
+    return one // common_divisor(one, other) * other
+
+
+def fraction(above, below):
+    """The fraction of both, below being from 1 on."""
+    shared = common_divisor(above, below)
+    return (above // shared, below // shared)
