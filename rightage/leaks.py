@@ -1,7 +1,7 @@
 """Leaks: what leads out of a table, and tables that nothing leads out of."""
 
 from rightage.tables import first_there, has, is_table
-from rightage.values import is_number_from, is_row
+from rightage.values import is_number, is_number_from, is_row
 from rightage.worlds import bears, first_of
 
 
@@ -33,7 +33,7 @@ def is_choice(world, way, place, ages):
     """Whether place is one of that way's hours and ages are ones that its parts may have."""
     kind, parts, keeps, hours, wait = world[3][way]
     # Python takes True for 1, so that being among the hours isn't enough.
-    if not is_number_from(place, 0, world[0] - 1) or place not in hours:
+    if not is_number(place) or place not in hours:
         return False
     if not is_row(ages, len(parts), len(parts)):
         return False

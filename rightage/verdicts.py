@@ -80,26 +80,23 @@ def first_making(world, least, kind, origin, age):
         if source[:2] == (kind, age) and brings(world, k, origin + age):
             return (("brought", k, origin + age), [])
     # The least table has only what is brought or made, so there is such a way.
-    fitting = [k for k, way in enumerate(world[3]) if makes(world, least, k, kind, origin, age)]
-    way = fitting[0]
-    return made_from(world, least, way, origin + age - world[3][way][4], origin)
+    fitting = [way for way in range(len(world[3])) if makes(world, least, way, kind, origin, age)]
+    return made_from(world, least, fitting[0], origin, age)
 
 
 def makes(world, least, way, kind, origin, age):
     """Whether by that way a thing of that kind and origin can be made so as to be born at that age."""
     moment = origin + age - world[3][way][4]
-    if world[3][way][0] != kind or moment < origin or not opens(world, way, moment):
+    if world[3][way][0] != kind or not opens(world, way, moment):
         return False
     return handing_ages(world, least, way, moment, moment - origin) is not None
 
 
-def made_from(world, least, way, moment, origin):
-    """(row, parts) of a thing of that origin that is made by that way at that moment."""
+def made_from(world, least, way, origin, age):
+    """(row, parts) of a thing of that origin that is made by that way so as to be born at that age."""
+    moment = origin + age - world[3][way][4]
     ages = handing_ages(world, least, way, moment, moment - origin)
-    parts = [
-        earliest(world, least, part[0], moment - age, age)
-        for part, age in zip(world[3][way][1], ages)
-    ]
+    parts = [earliest(world, least, part[0], moment - old, old) for part, old in zip(world[3][way][1], ages)]
     return (("made", way, moment), parts)
 
 

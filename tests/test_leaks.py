@@ -157,6 +157,13 @@ class TestMade(unittest.TestCase):
             self.assertIs(leak_holds(world, table, ("made", way, bool(place), (age,))), False)
             self.assertIs(leak_holds(world, table, ("made", way, place, (bool(age),))), False)
 
+    def test_ways_that_there_are_none_of(self):
+        world = (1, ("a", "b"), (), (("a", (("a", 0, 5),), "oldest", (), 1), ("b", (("a", 0, 5),), "oldest", (0,), 1)))
+        table = with_things(world, ("a", 0, 0))
+        told = [way for way in range(-5, 6) if leak_holds(world, table, ("made", way, 0, (2,)))]
+        self.assertEqual(told, [1])
+        self.assertIs(leak_holds(SMALLEST, empty_table(SMALLEST), ("made", 0, 0, (2,))), False)
+
     def test_places_that_are_no_hours(self):
         table = fullest_table(WORLD)
         table = replaced(table, (1,), empty_table(WORLD)[1])

@@ -90,6 +90,15 @@ class TestByHand(unittest.TestCase):
                          if cell is not None and (age == 0 or row[age - 1] != cell))
             self.assertGreater(latest, 60)
 
+    def test_what_is_born_when_nothing_else_is_news(self):
+        # From 100 on ale comes two old, which was three old before: news at 100 alone, and bun at 106.
+        for wait in range(1, 7):
+            for more in ((), (("cod", 0, 0, 5000, 1),)):
+                world = (1, ("ale", "bun", "cod"), (("ale", 3, 0, 0, 1), ("ale", 2, 0, 100, 1)) + more,
+                         (("bun", (("ale", 2, 2),), "oldest", (0,), wait),))
+                self.assertEqual(last_age(world, "bun", 0), (2 + wait, 98))
+                self.assertEqual(last_age(world, "cod", 0), (0, 5000) if more else None)
+
     def test_a_late_source(self):
         world = (4, ("ale", "bun"), (("ale", 2, 3, 0, 1), ("bun", 0, 1, SINCE, 1)),
                  (("bun", (("bun", 0, 3), ("ale", 0, 20)), "oldest", (1, 2), 1),))

@@ -60,6 +60,10 @@ class TestNoFault(unittest.TestCase):
     def test_later_rows_may_come_at_earlier_moments(self):
         self.lets(("brought", 0, 10), ("brought", 0, 2), ("made", 0, 4, (1,)))
 
+    def test_moments_from_nought(self):
+        world = (1, ("a",), (("a", 3, 0, 0, 1),), (("a", (("a", 3, 3),), "oldest", (0,), 1),))
+        self.assertIsNone(paperfault(world, (("brought", 0, 0), ("made", 0, 0, (0,)))))
+
     def test_moments_to_last(self):
         # LAST has place 0.
         self.assertEqual(LAST % 4, 0)

@@ -271,8 +271,10 @@ class TestForms(unittest.TestCase):
         self.assertIs(holds(("make", 0, 1, (3, 2), (1, 1)), world=world), True)
         closed = replaced(world, (3, 0, 3), ())
         self.assertIs(holds(("make", 0, 1, (3, 2), (1, 1)), world=closed), False)
-        for place in (-1, 2, None, True, False, "0", (0,), [0]):
-            self.assertIs(steady_holds(world, ("ale", 0, 7), (1, 1), (("take", place, 1, (1, 1)),)), False, place)
+        for place in (-2, -1, 2, 3, None, True, False, "0", (0,), [0]):
+            for age in (1, 2):
+                rows = (("take", place, age, (1, 1)),)
+                self.assertIs(steady_holds(world, ("ale", 0, 7), (1, 1), rows), False, place)
 
     def test_ages(self):
         for ages in ((0,), (4,), (), (1, 1), [1], 1, None, (True,), ("1",), (None,), ((1,),), (-1,), (HUGE,)):

@@ -127,6 +127,14 @@ class TestOneOfBoth(unittest.TestCase):
                     self.check(world, least, kind, origin, age)
                     self.check(world, least, kind, origin - world[0], age)
 
+    def test_ways_alike_but_for_their_hours(self):
+        ways = tuple(("bun", (("ale", 0, 9),), "oldest", (hour,), 2) for hour in range(4))
+        for turn in range(4):
+            world = (4, ("ale", "bun"), (("ale", 1, 2, 0, 1),), ways[turn:] + ways[:turn])
+            for age in range(8):
+                self.check(world, table(world), "bun", 1, age)
+                self.check(world, table(world), "bun", FAR - 3, age)
+
     def test_things_that_need_each_other_round_by_round(self):
         # The first cod comes ten old; a bun needs a cod, and with a bun cod is made younger, of the bun's round:
         # followed back moment by moment that would lead through all rounds.
