@@ -3,7 +3,7 @@
 from rightage.bounds import SPENT
 from rightage.errors import BadWish, NotNarrow
 from rightage.leaks import is_choice
-from rightage.values import common_multiple, fraction, is_fraction, is_number_from, is_row
+from rightage.values import common_multiple, is_fraction, is_number_from, is_row, total
 from rightage.wishes import item_word
 from rightage.worlds import bears, place_of
 
@@ -39,6 +39,14 @@ def refuse_want(world, want):
     word = item_word(world, want, SPENT)
     if word is not None:
         raise BadWish(0, word)
+
+
+def choices(parts):
+    """All choices of ages that the parts may have."""
+    told = [()]
+    for kind, least, greatest in parts:
+        told = [ages + (age,) for ages in told for age in range(least, greatest + 1)]
+    return told
 
 
 def steady_holds(world, want, number, thing):
@@ -118,9 +126,7 @@ def is_never_short(amounts):
 
 def yields(steady):
     """What its takes have together."""
-    takes = tuple([row for row in steady if row[0] == "take"])
-    below = times(takes)
-    return fraction(sum([row[-1][0] * (below // row[-1][1]) for row in takes]), below)
+    return total([row[-1] for row in steady if row[0] == "take"])
 
 
 def times(steady):

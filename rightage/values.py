@@ -55,3 +55,11 @@ def fraction(above, below):
     """The fraction of both, below being from 1 on."""
     shared = common_divisor(above, below)
     return (above // shared, below // shared)
+
+
+def total(fractions):
+    """The fraction that all come to together."""
+    told = (0, 1)
+    for above, below in fractions:
+        told = fraction(told[0] * below + above * told[1], told[1] * below)
+    return told

@@ -84,6 +84,15 @@ def is_at_once(node):
     return isinstance(node.func, ast.Attribute) and node.func.attr in AT_ONCE_METHODS
 
 
+def is_simple(node):
+    """Whether it may be assigned in a finally."""
+    if isinstance(node, (ast.Name, ast.Attribute, ast.Constant)):
+        return True
+    if isinstance(node, (ast.List, ast.Tuple)):
+        return all(is_simple(part) for part in node.elts)
+    return isinstance(node, ast.BinOp) and isinstance(node.op, ast.Add) and is_simple(node.left) and is_simple(node.right)
+
+
 class TestFiles(unittest.TestCase):
     def test_names(self):
         for name in sources():
@@ -230,6 +239,31 @@ class TestCode(unittest.TestCase):
         for name, node in nodes(ast.Raise):
             self.assertIsInstance(node.exc, ast.Call, (name, node.lineno))
             self.assertIsInstance(node.exc.func, ast.Name, (name, node.lineno))
+
+    def test_errors_that_are_caught(self):
+        own = {node.name for name, node in nodes(ast.ClassDef)}
+        for name, node in nodes(ast.ExceptHandler):
+            self.assertIsInstance(node.type, ast.Name, (name, node.lineno))
+            self.assertIn(node.type.id, own | {"KeyError", "ZeroDivisionError"}, (name, node.lineno))
+
+    def test_what_stands_in_a_finally(self):
+        for name, node in nodes(ast.Try):
+            for row in node.finalbody:
+                self.assertIsInstance(row, ast.Assign, (name, row.lineno))
+                self.assertEqual(len(row.targets), 1)
+                self.assertIsInstance(row.targets[0], (ast.Name, ast.Attribute), (name, row.lineno))
+                self.assertTrue(is_simple(row.value), (name, row.lineno))
+
+    def test_methods_of_python_change_nothing(self):
+        for name, node in nodes(ast.FunctionDef):
+            if node.name in ("__eq__", "__len__", "__str__", "__repr__"):
+                self.assertIsInstance(node.body[-1], ast.Return, (name, node.lineno))
+                for row in ast.walk(node):
+                    self.assertNotIsInstance(row, (ast.Assign, ast.AugAssign, ast.Delete, ast.For), (name, node.lineno))
+
+    def test_texts_with_braces_stand_on_one_line(self):
+        for name, node in nodes(ast.JoinedStr):
+            self.assertEqual(node.lineno, node.end_lineno, name)
 
     def test_no_stroke_among_parameters(self):
         for name, node in nodes(ast.arguments):
