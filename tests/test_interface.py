@@ -25,6 +25,9 @@ FUNCTIONS = {
     "walks": "walked(world,last,*missed)",
     "steady": "is_narrow(world) steady_holds(world,want,number,thing) yields(steady) times(steady)",
     "mosts": "most(world,want)",
+    "losses": "lost(world,source,moment)",
+    "prices": "prices_hold(world,want,number,thing) worth(world,prices)",
+    "texts": "world_text(world) read_world(text)",
 }
 CLASSES = {
     "halls": {
@@ -32,6 +35,7 @@ CLASSES = {
                 " tried(deeds,*tell) log() world() deeds() table() ready(kind,origin) verdict(kind,origin,age) first(wish)"
                 " most(want) changed() twin()",
     },
+    "desks": {"Desk": "say(line)"},
 }
 ERRORS = (
     "AgeError BadWorld BadPaper BadWish BadNames Unlike Clash Full NotNarrow TooMany Long Busy NothingBack NoDeed NoText NoNumber"
