@@ -3,8 +3,7 @@
 from rightage.beside import without
 from rightage.bounds import DEEDS
 from rightage.errors import BadWorld, Busy, Long, NoDeed, NoKind, NoPart, NoSource, NothingBack, NoWay
-from rightage.least import ready as ready_of
-from rightage.least import table as table_of
+from rightage.least import ready as ready_of, table as table_of
 from rightage.mosts import most as most_of
 from rightage.unlike import lacks
 from rightage.values import is_number_from
@@ -111,32 +110,26 @@ class Hall:
 
     def bring(self, source):
         """One source more, the last."""
-        self.refuse_busy()
         self.act(("bring", source))
 
     def way(self, way):
         """One way more, the last."""
-        self.refuse_busy()
         self.act(("way", way))
 
     def stop(self, number):
         """That source goes."""
-        self.refuse_busy()
         self.act(("stop", number))
 
     def shut(self, number):
         """That way goes."""
-        self.refuse_busy()
         self.act(("shut", number))
 
     def hours(self, number, hours):
         """That way's hours from now on."""
-        self.refuse_busy()
         self.act(("hours", number, hours))
 
     def window(self, number, part, least, greatest):
         """That part's ages from now on."""
-        self.refuse_busy()
         self.act(("window", number, part, least, greatest))
 
     def back(self):
@@ -152,7 +145,12 @@ class Hall:
             raise Busy("the hall is in the midst of a row of deeds")
 
     def act(self, deed):
-        """The deed is done, or refused for another reason than Busy."""
+        """The deed is done, or refused."""
+        self.refuse_busy()
+        self.step(deed)
+
+    def step(self, deed):
+        """The deed is done, busy or not, or refused for another reason."""
         if len(self) >= DEEDS:
             raise Long("no more deeds can stand")
         self.steps = self.steps + ((deed, behind(self.world(), deed)),)
@@ -169,7 +167,7 @@ class Hall:
         self.busy = True
         try:
             for number, deed in enumerate(wanted):
-                self.act_one_of(number, deed)
+                self.step_of_row(number, deed)
                 if tell is not None:
                     tell(self)
             kept, stand = self.steps, len(wanted)
@@ -178,11 +176,11 @@ class Hall:
             self.steps = kept
             self.rows = self.rows + [("end", stand)]
 
-    def act_one_of(self, number, deed):
+    def step_of_row(self, number, deed):
         """The deed of that number in a row of deeds is done, or refused."""
         if not is_deed(deed):
             raise NoDeed(number)
-        self.act(deed)
+        self.step(deed)
 
     def log(self):
         """The last rows of how rows of deeds began and ended."""
